@@ -1,0 +1,1 @@
+"""Programs whose hands never meet at a cell."""
