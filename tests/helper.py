@@ -3,9 +3,10 @@
 import random
 import unittest
 from fractions import Fraction
-from itertools import product
+from itertools import permutations, product
 
 from unmetcells.books import Book
+from unmetcells.scripts import Wish, turns_of
 
 # Things that are equal to numbers, look like numbers, or hold numbers, but are no whole numbers.
 NOT_NUMBERS = (True, False, 0.0, 1.0, 2.5, Fraction(1), 1 + 0j, "0", "1", b"1", None, (), (1,), [0], {0: 0})
@@ -19,6 +20,8 @@ NOT_TEXTS = (None, b"", b"book 1 1", 0, 1, True, 1.5, [], (), ["book 1 1"], {}, 
 
 TOSS_WAYS = ((0, 0, 0, 1), (0, 0, 1, 2), (1, 0, 0, 1), (1, 0, 1, 2), (2, 0, 0, 1), (2, 0, 1, 2),
              (0, 1, 0, 0), (1, 1, 0, 1), (2, 1, 1, 2))
+
+TOSS_SCRIPTS = (((0, 0, ()),), ((0, 1, ()),))
 
 
 def toss_and_show():
@@ -109,6 +112,166 @@ def mixed_forms(thing):
     """The thing as tuples, as lists, as a list of tuples and as a tuple of lists."""
     tuples = as_tuples(thing)
     return (tuples, as_lists(thing), list(tuples), tuple(as_lists(item) for item in tuples))
+
+
+def full_script(calls, depth):
+    """The script with all calls at each place down to this depth."""
+    if depth == 0:
+        return ()
+    return tuple((call, 0, full_script(calls, depth - 1)) for call in range(calls))
+
+
+def drawn_script(dice, book, depth):
+    """A script of at most this depth."""
+    if depth == 0:
+        return ()
+    return tuple((call, dice.choice(book.answers), drawn_script(dice, book, depth - 1))
+                 for call in range(book.calls) if dice.randrange(3) > 0)
+
+
+def drawn_wishes(seed, many):
+    """So many wishes, over small books."""
+    dice = random.Random(seed)
+    wishes = []
+    for book in drawn_books(seed, many, 3, 2):
+        past, ends = (), (0,)
+        for _ in range(dice.randrange(4)):
+            entry = (dice.randrange(4), dice.randrange(book.calls), dice.choice(book.answers))
+            if walk_ends(book, ends, (entry[1:],)):
+                past, ends = past + (entry,), walk_ends(book, ends, (entry[1:],))
+        scripts = [drawn_script(dice, book, 1 + dice.randrange(3))]
+        scripts += [drawn_script(dice, book, 1) for _ in range(dice.randrange(3))]
+        if len(turns_of(scripts[0])) * 9 <= 200:
+            wishes.append(Wish(book, past, scripts))
+    return wishes
+
+
+def likely_script(dice, book, standing, depth):
+    """A script of at most this depth that a hand hears alone from the standing."""
+    rows = []
+    for call in range(book.calls):
+        if depth > 0 and dice.randrange(4) > 0:
+            ends = {answer: walk_ends(book, standing, ((call, answer),)) for answer in book.answers}
+            answer = dice.choice([answer for answer in ends if ends[answer]])
+            rows.append((call, answer, likely_script(dice, book, ends[answer], depth - 1)))
+    return tuple(rows)
+
+
+def likely_wishes(seed, many, most_depth=2):
+    """So many wishes in which each hand alone hears its script; some are had, some are barred in many ways."""
+    dice = random.Random(seed)
+    wishes = []
+    while len(wishes) < many:
+        states, calls = dice.choice((2, 3, 4)), dice.choice((1, 2, 2, 3))
+        ways = []
+        for state, call in product(range(states), range(calls)):
+            ways += dice.sample(list(product((state,), (call,), range(3), range(states))), dice.choice((1, 1, 2, 3)))
+        book, past, ends = Book(states, calls, ways), (), (0,)
+        for _ in range(dice.choice((0, 0, 1, 3))):
+            way = dice.choice([way for way in book if way[0] in ends])
+            past, ends = past + ((dice.randrange(4),) + way[1:3],), walk_ends(book, ends, (way[1:3],))
+        scripts = [likely_script(dice, book, ends, dice.randrange(1, most_depth + 1)) for _ in range(dice.choice((2, 2, 3)))]
+        if 1 < cuts_in(scripts) <= 200:
+            wishes.append(Wish(book, past, scripts))
+    return wishes
+
+
+def cuts_in(scripts):
+    """How many cuts a wish with these scripts has."""
+    count = 1
+    for script in scripts:
+        count *= len(turns_of(script))
+    return count
+
+
+def plain_entries(script, hand, turn):
+    """The entries that a hand makes along a turn of its script, row by row."""
+    entries = []
+    for call in turn:
+        row = [row for row in script if row[0] == call][0]
+        entries.append((hand, call, row[1]))
+        script = row[2]
+    return tuple(entries)
+
+
+def plain_weavings(parts):
+    """All rows that keep the order within each part, ascending."""
+    rows = set()
+    for order in set(permutations([at for at, part in enumerate(parts) for _ in part])):
+        rest = [list(part) for part in parts]
+        rows.add(tuple(rest[at].pop(0) for at in order))
+    return tuple(sorted(rows))
+
+
+def weavings_of(wish, cut):
+    """All weavings at a cut of a wish."""
+    return plain_weavings([plain_entries(wish.scripts[hand], hand, turn) for hand, turn in enumerate(cut)])
+
+
+def ends_behind(wish, row):
+    """The ends of the walks along the past of a wish and a row of entries."""
+    return walk_ends(wish.book, (0,), [entry[1:] for entry in wish.past + tuple(row)])
+
+
+def plain_trimmed(standings):
+    """The standings that hold all states of no other, unlike one."""
+    sets = {frozenset(standing) for standing in standings}
+    return tuple(sorted(tuple(sorted(one)) for one in sets if not any(other < one for other in sets)))
+
+
+def plain_joint(wish, cut):
+    """The joint of all weavings at a cut, walked one by one."""
+    return plain_trimmed([ends_behind(wish, row) for row in weavings_of(wish, cut)])
+
+
+def plain_onward(book, joint, call, answer):
+    """The joint onward, standing by standing."""
+    return plain_trimmed([walk_ends(book, standing, ((call, answer),)) for standing in joint])
+
+
+def plain_reached(book, joint):
+    """A dict from each joint that is reached to its joints onward: a list for each call, an item for each answer."""
+    borne = sorted({way[2] for way in book.ways})
+    table, waiting = {}, [plain_trimmed(joint)]
+    while waiting:
+        present = waiting.pop()
+        if present not in table:
+            table[present] = [[plain_onward(book, present, call, answer) for answer in borne]
+                              for call in range(book.calls)]
+            waiting += [led for row in table[present] for led in row]
+    return table
+
+
+def plain_safe(table):
+    """The greatest lot among joints that are closed: joints are taken away until none has to be."""
+    lot = {joint for joint in table if () not in joint}
+    while True:
+        kept = {joint for joint in lot if all(any(led in lot for led in row) for row in table[joint])}
+        if kept == lot:
+            return lot
+        lot = kept
+
+
+def plain_ranks(table):
+    """The ranks among joints that are closed, as their definition tells; safe ones have a rank beyond all."""
+    beyond = len(table) + 1
+    ranks = {joint: 0 if () in joint else beyond for joint in table}
+    while True:
+        better = {joint: 0 if () in joint else
+                  min(beyond, 1 + min(max(ranks[led] for led in row) for row in table[joint])) for joint in table}
+        if better == ranks:
+            return {joint: None if ranks[joint] == beyond else ranks[joint] for joint in table}
+        ranks = better
+
+
+def drawn_joints(seed, many, most_states=4, most_calls=3):
+    """So many couples of a book and standings that make a joint, not trimmed, in any order."""
+    dice = random.Random(seed)
+    found = []
+    for book in drawn_books(seed, many, most_states, most_calls):
+        standings = all_standings(book)[1:]
+        found.append((book, [dice.choice(standings) for _ in range(dice.randrange(1, 6))]))
+    return found
 
 
 def changed_texts(text, signs):

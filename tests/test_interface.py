@@ -19,18 +19,42 @@ FUNCTIONS = {
     "scripts": {"check_scripts": "book scripts", "turns_of": "script", "script_behind": "script turn",
                 "script_depth": "script", "cut_script": "script depth", "entries_of": "wish hand turn",
                 "alone_fault": "wish", "cut_down": "wish depth", "without_hand": "wish hand"},
+    "cuts": {"cut_size": "cut", "cuts_of": "wish", "check_cut": "wish cut", "heads_at": "wish cut",
+             "cut_with": "cut hand call", "weaving_count": "cut", "weavings_at": "wish cut"},
+    "joints": {"trimmed": "standings", "check_joint": "book joint", "joint_at": "wish cut", "standings_at": "wish cut",
+               "joint_onward": "book joint call answer", "joints_of": "wish"},
+    "wishtexts": {"wish_text": "wish", "read_wish": "text"},
+    "safety": {"joints_from": "book joint most=300", "is_safe": "book joint", "safe_joints": "book joint",
+               "rank_of": "book joint", "kept_answer": "book joint call", "kept_run": "book joint calls",
+               "kept_lot": "book joint", "lot_fault": "book joint lot"},
+    "foes": {"plan_fault": "book joint plan", "foe_plan": "book joint", "wish_fault": "wish", "is_had": "wish"},
+    "steps": {"check_ask": "calls hand call", "check_asks": "calls asks", "do_step": "program cells hand call",
+              "run_program": "program asks cells=None", "meeting_of": "one other", "meetings_in": "run begin=0"},
+    "rightness": {"program_fault": "book program hands=10"},
 }
 
 CLASSES = {
     "books": {"Book": "states calls ways"},
     "scripts": {"Wish": "book past scripts"},
+    "foes": {"Barred": "cut joint plan"},
+    "steps": {"Run": "entries marks cells"},
+    "programs": {"UnmetProgram": "wish"},
+    "foreign": {"Foreign": "sizes rows"},
 }
 
 METHODS = {
     ("books", "Book"): {"steps_from": "self state call", "with_way": "self way", "without_way": "self way",
                         "__iter__": "self", "__len__": "self", "__contains__": "self way", "__eq__": "self other"},
     ("scripts", "Wish"): {"__eq__": "self other"},
+    ("foes", "Barred"): {"__eq__": "self other"},
+    ("steps", "Run"): {"__eq__": "self other"},
+    ("programs", "UnmetProgram"): {"first_cells": "self", "step": "self read write hand call", "heard": "self read"},
+    ("foreign", "Foreign"): {"first_cells": "self", "step": "self read write hand call", "__eq__": "self other"},
 }
+
+PROPERTIES = {("books", "Book"): "answers", ("steps", "Run"): "answers"}
+
+GENERATORS = {"joints_of"}
 
 
 def module_of(name):
@@ -38,11 +62,8 @@ def module_of(name):
 
 
 def parameters(thing):
-    """The names of the parameters, in order; none has a default here."""
-    found = inspect.signature(thing).parameters
-    if any(parameter.default is not parameter.empty for parameter in found.values()):
-        return None
-    return " ".join(found)
+    """The parameters, in order, with their defaults."""
+    return " ".join(str(parameter) for parameter in inspect.signature(thing).parameters.values())
 
 
 class TestInterface(unittest.TestCase):
@@ -54,6 +75,7 @@ class TestInterface(unittest.TestCase):
                 self.assertTrue(inspect.isfunction(found), function)
                 self.assertEqual(found.__module__, "unmetcells." + name)
                 self.assertEqual(parameters(found), wanted, function)
+                self.assertEqual(inspect.isgeneratorfunction(found), function in GENERATORS, function)
 
     def test_classes(self):
         for name, classes in CLASSES.items():
@@ -69,8 +91,9 @@ class TestInterface(unittest.TestCase):
             for method, wanted in methods.items():
                 self.assertEqual(parameters(found[method]), wanted, method)
 
-    def test_property(self):
-        self.assertIsInstance(vars(module_of("books").Book)["answers"], property)
+    def test_properties(self):
+        for (name, kind), wanted in PROPERTIES.items():
+            self.assertIsInstance(vars(getattr(module_of(name), kind))[wanted], property, kind)
 
     def test_errors_are_defined_in_their_file(self):
         errors = module_of("errors")

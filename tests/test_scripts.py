@@ -3,8 +3,8 @@
 import random
 from itertools import product
 
-from tests.helper import (NOT_NUMBERS, NOT_SEQUENCES, Case, as_lists, drawn_books, full_book, least_book, mixed_forms,
-                          set_and_look, toss_and_show, walk_ends)
+from tests.helper import (NOT_NUMBERS, NOT_SEQUENCES, TOSS_SCRIPTS, Case, as_lists, drawn_script, drawn_wishes, full_book,
+                          full_script, least_book, mixed_forms, set_and_look, toss_and_show, walk_ends)
 from unmetcells.errors import BadDepth, BadPast, BadScripts, NoTurn, TooMany
 from unmetcells.scripts import (Wish, alone_fault, check_scripts, cut_down, cut_script, entries_of, script_behind,
                                 script_depth, turns_of, without_hand)
@@ -12,42 +12,9 @@ from unmetcells.scripts import (Wish, alone_fault, check_scripts, cut_down, cut_
 SCRIPT = ((0, 0, ((0, 1, ()), (1, 2, ((1, 0, ()),)))), (1, 1, ()))
 SCRIPTS = (SCRIPT, (), ((1, 0, ((0, 0, ()),)),))
 SCRIPT_TURNS = ((), (0,), (0, 0), (0, 1), (0, 1, 1), (1,))
-TOSS_SCRIPTS = (((0, 0, ()),), ((0, 1, ()),))
 
 NOT_TURNS = NOT_SEQUENCES + ((2,), (0, 2), (0, 0, 0), (1, 0), (0, 1, 1, 1), (-1,), ((0,),), (None,), ("0",), (True,),
                              (False,), (0, True), (0.0,), (1.0,), ([],))
-
-
-def full_script(calls, depth):
-    """The script with all calls at each place down to this depth."""
-    if depth == 0:
-        return ()
-    return tuple((call, 0, full_script(calls, depth - 1)) for call in range(calls))
-
-
-def drawn_script(dice, book, depth):
-    """A script of at most this depth."""
-    if depth == 0:
-        return ()
-    return tuple((call, dice.choice(book.answers), drawn_script(dice, book, depth - 1))
-                 for call in range(book.calls) if dice.randrange(3) > 0)
-
-
-def drawn_wishes(seed, many):
-    """So many wishes, over small books."""
-    dice = random.Random(seed)
-    wishes = []
-    for book in drawn_books(seed, many, 3, 2):
-        past, ends = (), (0,)
-        for _ in range(dice.randrange(4)):
-            entry = (dice.randrange(4), dice.randrange(book.calls), dice.choice(book.answers))
-            if walk_ends(book, ends, (entry[1:],)):
-                past, ends = past + (entry,), walk_ends(book, ends, (entry[1:],))
-        scripts = [drawn_script(dice, book, 1 + dice.randrange(3))]
-        scripts += [drawn_script(dice, book, 1) for _ in range(dice.randrange(3))]
-        if len(turns_of(scripts[0])) * 9 <= 200:
-            wishes.append(Wish(book, past, scripts))
-    return wishes
 
 
 class TestCheckScripts(Case):

@@ -2,13 +2,13 @@
 
 from unmetcells.errors import BadCover, NotLooser, UnlikeCalls
 from unmetcells.kinds import is_from, is_row, is_sequence
-from unmetcells.standings import START, couples_from, is_standing, least_parting
+from unmetcells.standings import START, couples_from, has_lesser, is_standing, least_parting
 
 MOST_COVER = 400
 
 
 def check_calls(one, other):
-    """Raise UnlikeCalls if the books have not equally many calls."""
+    """Raise UnlikeCalls if two books, or a book and a program, have not equally many calls."""
     if one.calls != other.calls:
         raise UnlikeCalls()
 
@@ -67,14 +67,6 @@ def uncovered_way(one, other, table, state, standing):
             if not has_lesser(table.get(way[3], {}), led):
                 return way
     return None
-
-
-def has_lesser(standings, greater):
-    """Tell whether all states of some standing belong to the greater one."""
-    for standing in standings:
-        if all([state in greater for state in standing]):
-            return True
-    return False
 
 
 def cover_of(one, other):

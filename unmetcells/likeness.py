@@ -52,7 +52,8 @@ def count_trails(book, standing, length):
     leads = {}
     for _ in range(length):
         longer = {}
-        for before in counts:
+        # `longer` gets the name `counts` below, so the loop walks a copy and nothing that is changed in it.
+        for before in list(counts):
             if before not in leads:
                 leads[before] = standings_onward(book, before)
             for after in leads[before]:

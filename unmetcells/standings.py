@@ -28,6 +28,14 @@ def check_standing(book, standing):
     return tuple(standing)
 
 
+def has_lesser(standings, greater):
+    """Tell whether all states of some standing belong to the greater one."""
+    for standing in standings:
+        if all([state in greater for state in standing]):
+            return True
+    return False
+
+
 def standing_behind(book, standing, trail):
     """Return the standing after all couples of a trail; nothing is checked."""
     for call, answer in trail:
