@@ -1,12 +1,15 @@
 """Sample books, wrong things, and plain searches that the tests hold the program against."""
 
+import inspect
 import random
 import unittest
 from fractions import Fraction
-from itertools import permutations, product
+from itertools import combinations, permutations, product
 
 from unmetcells.books import Book
+from unmetcells.errors import BadCall, BadHand
 from unmetcells.scripts import Wish, turns_of
+from unmetcells.steps import do_step, run_program
 
 # Things that are equal to numbers, look like numbers, or hold numbers, but are no whole numbers.
 NOT_NUMBERS = (True, False, 0.0, 1.0, 2.5, Fraction(1), 1 + 0j, "0", "1", b"1", None, (), (1,), [0], {0: 0})
@@ -274,6 +277,86 @@ def drawn_joints(seed, many, most_states=4, most_calls=3):
     return found
 
 
+def plain_books(seed, many, most_states=4, most_calls=3):
+    """So many books with one way for each state and call."""
+    dice = random.Random(seed)
+    books = []
+    for _ in range(many):
+        states, calls = dice.randrange(1, most_states + 1), dice.randrange(1, most_calls + 1)
+        borne = dice.choice(((0,), (0, 1), (0, 0, 0, 1), (0, 0, 0, 0, 1), (0, 1, 2)))
+        books.append(Book(states, calls, [(state, call, dice.choice(borne), dice.randrange(states))
+                                          for state in range(states) for call in range(calls)]))
+    return books
+
+
+def drawn_histories(seed, many, most=6, most_states=4, most_calls=2):
+    """So many couples of a book and a history of at most so many entries by at most 4 hands; most are right."""
+    dice = random.Random(seed)
+    found = []
+    while len(found) < many:
+        states, calls = dice.randrange(1, most_states + 1), dice.randrange(1, most_calls + 1)
+        ways = []
+        for state, call in product(range(states), range(calls)):
+            ways += dice.sample(list(product((state,), (call,), range(3), range(states))), dice.choice((1, 1, 2, 3)))
+        book, ends, history = Book(states, calls, ways), (0,), ()
+        hands = dice.sample(range(10), dice.randrange(1, 5))
+        for _ in range(dice.randrange(most + 1)):
+            _, call, answer, after = dice.choice([way for way in book if way[0] in ends])
+            if dice.randrange(25) == 0:
+                answer = dice.randrange(3)
+            history, ends = history + ((dice.choice(hands), call, answer),), (after,)
+        found.append((book, history))
+    return found
+
+
+def all_seams(history):
+    """All seams that a history may have, those with fewer seams first, then ascending."""
+    places = range(1, len(history))
+    return [seams for many in range(len(history) or 1) for seams in combinations(places, many)]
+
+
+def parts_between(history, seams):
+    """The stretches of a history, cut at the seams one by one."""
+    stretches = [()]
+    for index, entry in enumerate(history):
+        if index in seams:
+            stretches.append(())
+        stretches[-1] += (entry,)
+    return tuple(stretches)
+
+
+def rows_within(stretch):
+    """All orders of the entries of a stretch in which the entries of each hand keep theirs, ascending."""
+    rows = set()
+    for order in permutations(range(len(stretch))):
+        if all(one < other for at, one in enumerate(order) for other in order[at + 1:] if stretch[one][0] == stretch[other][0]):
+            rows.add(tuple(stretch[index] for index in order))
+    return sorted(rows)
+
+
+def rows_across(stretches):
+    """All rows of these stretches, one after the other, ascending."""
+    return sorted(tuple(entry for part in parts for entry in part) for parts in product(*map(rows_within, stretches)))
+
+
+def first_entries(stretch, counts):
+    """The first entries of each hand of a stretch that the counts tell, in the order of the stretch."""
+    left = dict(zip(sorted({entry[0] for entry in stretch}), counts))
+    kept = ()
+    for entry in stretch:
+        if left[entry[0]] > 0:
+            kept += (entry,)
+            left[entry[0]] -= 1
+    return kept
+
+
+def plain_counts(stretch):
+    """All counts of a stretch, by their sum, then ascending."""
+    hands = [entry[0] for entry in stretch]
+    rows = product(*[range(hands.count(hand) + 1) for hand in sorted(set(hands))])
+    return sorted(rows, key=lambda row: (sum(row), row))
+
+
 def changed_texts(text, signs):
     """All texts that come from one by a sign or a line that is changed, dropped, doubled or exchanged."""
     found = []
@@ -293,6 +376,18 @@ def changed_texts(text, signs):
     return sorted(set(found))
 
 
+def heard_from(program, cells):
+    """What the cells tell of the run."""
+    return program.heard(dict(cells).__getitem__)
+
+
+def is_plain_value(thing):
+    """Tell whether the thing is a plain value, as [5.1] tells."""
+    if thing.__class__ is tuple:
+        return all(is_plain_value(item) for item in thing)
+    return thing is None or thing.__class__ in (bool, int, str)
+
+
 class Case(unittest.TestCase):
     """A test case with what several files ask for."""
 
@@ -307,6 +402,89 @@ class Case(unittest.TestCase):
         """Want an equal thing of the same kinds: True is not 1 here, and a list is no tuple."""
         self.assertEqual(found, wanted)
         self.assertEqual(repr(found), repr(wanted))
+
+    def refusesBadAsks(self, program):
+        """Want that bad asks are refused ahead of all reads and writes."""
+        def untouched(*told):
+            raise AssertionError(told)
+
+        for hand in NOT_NUMBERS + (10, -1, 10 ** 100):
+            self.refuses(BadHand, {}, program.step, untouched, untouched, hand, 0)
+            self.refuses(BadHand, {}, program.step, untouched, untouched, hand, None)
+        for call in NOT_NUMBERS + (program.calls, -1, 10 ** 100):
+            for hand in (0, 1, 3, 9):
+                self.refuses(BadCall, {}, program.step, untouched, untouched, hand, call)
+
+    def hasFirstCells(self, program, twin):
+        """Want first cells of plain values that are new each time, and equal to those of a twin."""
+        cells = program.first_cells()
+        self.assertIs(cells.__class__, dict)
+        for name, value in cells.items():
+            self.assertIs(name.__class__, str)
+            self.assertTrue(is_plain_value(value))
+        self.assertIsNot(program.first_cells(), cells)
+        cells.clear()
+        self.assertNotEqual(program.first_cells(), {})
+        self.assertEqual(program.first_cells(), twin.first_cells())
+
+    def goesOn(self, program, twin, asks, half):
+        """Want that a twin goes on with the cells that a program has left behind half of the asks."""
+        run, first = run_program(program, asks), run_program(program, asks[:half])
+        rest = run_program(twin, asks[half:], first.cells)
+        self.assertEqual(rest.cells, run.cells)
+        self.assertEqual(first.entries + rest.entries, run.entries)
+
+    def servesInTurn(self, program, twins, rows):
+        """Want that a program serves a dict of cells for each row of asks in turn, as a twin of its own would each."""
+        wanted = [run_program(twin, row) for twin, row in zip(twins, rows)]
+        cells, answers = [program.first_cells() for _ in rows], [[] for _ in rows]
+        for at in range(len(rows[0])):
+            for k, row in enumerate(rows):
+                answer, _, cells[k] = do_step(program, cells[k], *row[at])
+                answers[k].append(answer)
+        self.assertEqual([tuple(found) for found in answers], [run.answers for run in wanted])
+        self.assertEqual(cells, [run.cells for run in wanted])
+
+    def dependsOnReads(self, program, cells, hand, call):
+        """Want that a step does the same if only the cells that it reads are there."""
+        answer, marks, behind = do_step(program, cells, hand, call)
+        again, other, changed = do_step(program, {name: cells[name] for name in marks[0]}, hand, call)
+        self.assertSame((again, other), (answer, marks))
+        self.assertEqual(changed, {name: behind[name] for name in set(marks[0] + marks[1])})
+
+    def hearsOwnCells(self, program, asks):
+        """Want that `heard` behind these asks reads cells of the program alone."""
+        cells, asked = run_program(program, asks).cells, []
+
+        def read(name):
+            asked.append(name)
+            return cells[name]
+
+        self.assertSame(program.heard(read), heard_from(program, cells))
+        self.assertTrue(set(asked) <= set(program.first_cells()))
+
+    def isResult(self, kind, *names):
+        """Want a class that keeps the very things that it is given, whatever they are, and compares them alone."""
+        things = [object() for _ in names]
+        for found in (kind(*things), kind(**dict(zip(names, things)))):
+            self.assertEqual(list(vars(found)), list(names))
+            for name, thing in zip(names, things):
+                self.assertIs(getattr(found, name), thing)
+        one, twin = kind(*[[name] for name in names]), kind(*[[name] for name in names])
+        self.assertIs(one == twin, True)
+        self.assertIs(one != twin, False)
+        others = [kind(*[[name] if name != changed else [] for name in names]) for changed in names]
+        for other in others + [tuple([name] for name in names), [list(names)], None, 1, "", object()]:
+            self.assertIs(one == other, False)
+            self.assertIs(other == one, False)
+            self.assertIs(one != other, True)
+
+    def unlikeClasses(self, *kinds):
+        """Want that objects of two classes are never equal; the classes take equally many things."""
+        many = len(inspect.signature(kinds[0]).parameters)
+        for one, other in permutations(kinds, 2):
+            self.assertIs(one(*range(many)) == other(*range(many)), False)
+            self.assertIs(one(*range(many)) != other(*range(many)), True)
 
     def assertTuples(self, thing):
         """Want whole numbers, None, strings, and tuples of these only."""

@@ -4,7 +4,7 @@ import random
 from itertools import product
 
 from tests.helper import NOT_NUMBERS, NOT_SEQUENCES, Case, as_lists, as_tuples, mixed_forms
-from unmetcells.errors import BadCall, BadForeign, BadHand
+from unmetcells.errors import BadForeign
 from unmetcells.foreign import Foreign
 from unmetcells.steps import do_step, run_program
 
@@ -141,16 +141,7 @@ class TestSteps(Case):
         self.assertSame([do_step(foreign, {"c0": 0}, hand, 0)[0] for hand in range(10)], [0, 1, 2] + [1] * 7)
 
     def test_bad_asks_are_refused_ahead_of_reads_and_writes(self):
-        def untouched(*told):
-            raise AssertionError(told)
-
-        foreign = Foreign((2,), rows_of(SET, LOOK))
-        for hand in NOT_NUMBERS + (10, -1, 10 ** 100):
-            self.refuses(BadHand, {}, foreign.step, untouched, untouched, hand, 0)
-            self.refuses(BadHand, {}, foreign.step, untouched, untouched, hand, None)
-        for call in NOT_NUMBERS + (2, -1, 10 ** 100):
-            for hand in (0, 3, 9):
-                self.refuses(BadCall, {}, foreign.step, untouched, untouched, hand, call)
+        self.refusesBadAsks(Foreign((2,), rows_of(SET, LOOK)))
 
 
 class TestRefused(Case):

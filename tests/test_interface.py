@@ -31,6 +31,22 @@ FUNCTIONS = {
     "steps": {"check_ask": "calls hand call", "check_asks": "calls asks", "do_step": "program cells hand call",
               "run_program": "program asks cells=None", "meeting_of": "one other", "meetings_in": "run begin=0"},
     "rightness": {"program_fault": "book program hands=10"},
+    "meetings": {"exchange": "program cells one other", "meet_fault": "foreign past lots",
+                 "scripts_of": "program past lots depth"},
+    "keeping": {"kept_fault": "wish program"},
+    "heads": {"plain_state": "wish cut", "heads_fault": "wish", "pass_at": "book state one other", "passing_calls": "book"},
+    "stretches": {"check_seams": "book history seams", "stretches_of": "book history seams",
+                  "counts_of": "book history seams stretch", "stretch_joint": "book history seams stretch counts",
+                  "stretch_fault": "book history seams", "all_partings": "book history",
+                  "coarsest_partings": "book history", "fewest_stretches": "book history",
+                  "woven_rows": "book history seams"},
+    "fullwish": {"full_places": "book hands depth", "full_wish": "book past hands depth",
+                 "full_refusal": "book past hands depth", "full_refusal_fault": "book past hands depth refusal",
+                 "deepest": "book past hands most"},
+    "loosen": {"check_pool": "book pool", "loosened": "book lot", "loosened_wish": "wish lot", "loosenings": "wish pool",
+               "firm_lots": "wish pool", "loosen_fault": "wish lot"},
+    "edits": {"edited": "wish edits"},
+    "bench": {"check_goals": "book goals", "is_met": "wish goal"},
 }
 
 CLASSES = {
@@ -40,6 +56,13 @@ CLASSES = {
     "steps": {"Run": "entries marks cells"},
     "programs": {"UnmetProgram": "wish"},
     "foreign": {"Foreign": "sizes rows"},
+    "meetings": {"Exchange": "ahead behind meets"},
+    "keeping": {"Past": "index", "Unlike": "cut hand call", "Meets": "cut one other cell"},
+    "heads": {"Clash": "cut heads what trail"},
+    "stretches": {"BarredStretch": "stretch counts joint plan", "Parting": "seams joints"},
+    "stretchprogram": {"StretchProgram": "book history seams"},
+    "loosen": {"Needless": "way"},
+    "bench": {"Trial": "wish met won lost", "Bench": "wish goals=()"},
 }
 
 METHODS = {
@@ -50,11 +73,22 @@ METHODS = {
     ("steps", "Run"): {"__eq__": "self other"},
     ("programs", "UnmetProgram"): {"first_cells": "self", "step": "self read write hand call", "heard": "self read"},
     ("foreign", "Foreign"): {"first_cells": "self", "step": "self read write hand call", "__eq__": "self other"},
+    ("meetings", "Exchange"): {"__eq__": "self other"},
+    ("keeping", "Past"): {"__eq__": "self other"},
+    ("keeping", "Unlike"): {"__eq__": "self other"},
+    ("keeping", "Meets"): {"__eq__": "self other"},
+    ("heads", "Clash"): {"__eq__": "self other"},
+    ("stretches", "BarredStretch"): {"__eq__": "self other"},
+    ("stretches", "Parting"): {"__eq__": "self other"},
+    ("stretchprogram", "StretchProgram"): {"first_cells": "self", "step": "self read write hand call", "heard": "self read"},
+    ("loosen", "Needless"): {"__eq__": "self other"},
+    ("bench", "Trial"): {"__eq__": "self other"},
+    ("bench", "Bench"): {"goals_met": "self", "do": "self edits", "take_back": "self", "trial": "self edits"},
 }
 
 PROPERTIES = {("books", "Book"): "answers", ("steps", "Run"): "answers"}
 
-GENERATORS = {"joints_of"}
+GENERATORS = {"joints_of", "woven_rows"}
 
 
 def module_of(name):
@@ -94,6 +128,18 @@ class TestInterface(unittest.TestCase):
     def test_properties(self):
         for (name, kind), wanted in PROPERTIES.items():
             self.assertIsInstance(vars(getattr(module_of(name), kind))[wanted], property, kind)
+
+    def test_every_module_is_here(self):
+        listed = set(FUNCTIONS) | set(CLASSES) | {"errors"}
+        self.assertEqual(len(listed), 27)
+        for name in listed:
+            self.assertEqual(module_of(name).__name__, "unmetcells." + name)
+
+    def test_classes_that_have_an_own_equality(self):
+        for name, classes in CLASSES.items():
+            for kind in classes:
+                own = "__eq__" in vars(getattr(module_of(name), kind))
+                self.assertIs(own, "__eq__" in METHODS.get((name, kind), {}), kind)
 
     def test_errors_are_defined_in_their_file(self):
         errors = module_of("errors")

@@ -3,13 +3,13 @@
 import random
 from itertools import product
 
-from tests.helper import (NOT_NUMBERS, TOSS_SCRIPTS, Case, as_lists, drawn_wishes, full_book, full_script, least_book,
-                          likely_wishes, plain_onward, plain_reached, plain_safe, set_and_look, toss_and_show, walk_ends,
-                          weavings_of)
+from tests.helper import (TOSS_SCRIPTS, Case, as_lists, drawn_wishes, full_book, full_script, heard_from, is_plain_value,
+                          least_book, likely_wishes, plain_onward, plain_reached, plain_safe, set_and_look, toss_and_show,
+                          walk_ends, weavings_of)
 from tests.test_foes import wide_wish
 from tests.test_safety import loose_toss
 from unmetcells.cuts import cut_with, cuts_of, heads_at
-from unmetcells.errors import BadCall, BadHand, NotHad, TooMany
+from unmetcells.errors import NotHad, TooMany
 from unmetcells.foes import is_had, wish_fault
 from unmetcells.joints import joint_at
 from unmetcells.programs import UnmetProgram
@@ -30,11 +30,6 @@ def had_wishes(seed, many):
     return [wish for wish in drawn_wishes(seed, many) + likely_wishes(seed + 1, many) if is_had(wish)]
 
 
-def heard_from(program, cells):
-    """What the cells tell of the run."""
-    return program.heard(dict(cells).__getitem__)
-
-
 def plain_heard(wish, entries):
     """What is to be heard of a run, entry by entry, as [5.7] and [5.8] tell."""
     heard = ("past", 0) if wish.past else ("apart", ((),) * len(wish.scripts))
@@ -51,13 +46,6 @@ def plain_heard(wish, entries):
         else:
             heard = ("one", plain_onward(wish.book, found, call, answer))
     return heard
-
-
-def is_plain_value(thing):
-    """Tell whether the thing is a plain value, as [5.1] tells."""
-    if thing.__class__ is tuple:
-        return all(is_plain_value(item) for item in thing)
-    return thing is None or thing.__class__ in (bool, int, str)
 
 
 class TestErrors(Case):
@@ -78,16 +66,8 @@ class TestErrors(Case):
         self.refuses(TooMany, {"most": 300}, UnmetProgram, wide_wish())
 
     def test_bad_asks_are_refused_ahead_of_reads_and_writes(self):
-        def untouched(*told):
-            raise AssertionError(told)
-
         for program in (UnmetProgram(look_wish()), UnmetProgram(Wish(loose_toss(), (), TOSS_SCRIPTS))):
-            for hand in NOT_NUMBERS + (10, -1, 10 ** 100):
-                self.refuses(BadHand, {}, program.step, untouched, untouched, hand, 0)
-                self.refuses(BadHand, {}, program.step, untouched, untouched, hand, None)
-            for call in NOT_NUMBERS + (2, -1, 10 ** 100):
-                for hand in (0, 1, 9):
-                    self.refuses(BadCall, {}, program.step, untouched, untouched, hand, call)
+            self.refusesBadAsks(program)
 
 
 class TestExample(Case):
@@ -117,16 +97,7 @@ class TestObject(Case):
 
     def test_first_cells(self):
         for wish in had_wishes(154, 30):
-            program = UnmetProgram(wish)
-            cells = program.first_cells()
-            self.assertIs(cells.__class__, dict)
-            for name, value in cells.items():
-                self.assertIs(name.__class__, str)
-                self.assertTrue(is_plain_value(value))
-            self.assertIsNot(program.first_cells(), cells)
-            cells.clear()
-            self.assertNotEqual(program.first_cells(), {})
-            self.assertEqual(program.first_cells(), UnmetProgram(wish).first_cells())
+            self.hasFirstCells(UnmetProgram(wish), UnmetProgram(wish))
 
     def test_heard_at_first(self):
         for wish in had_wishes(155, 30):
@@ -282,26 +253,13 @@ class TestCells(Case):
         for wish in had_wishes(160, 40):
             one, other = UnmetProgram(wish), UnmetProgram(Wish(wish.book, as_lists(wish.past), as_lists(wish.scripts)))
             asks = [entry[:2] for entry in wish.past] + [(dice.randrange(4), dice.randrange(wish.book.calls)) for _ in range(8)]
-            half = dice.randrange(len(asks))
-            run = run_program(one, asks)
-            first = run_program(one, asks[:half])
-            self.assertEqual(run_program(other, asks[half:], first.cells).cells, run.cells)
-            self.assertEqual(first.entries + run_program(other, asks[half:], first.cells).entries, run.entries)
+            self.goesOn(one, other, asks, dice.randrange(len(asks)))
 
     def test_one_program_serves_several_dicts_in_turn(self):
         dice = random.Random(161)
         for wish in had_wishes(161, 40):
-            program = UnmetProgram(wish)
             rows = [[(dice.randrange(3), dice.randrange(wish.book.calls)) for _ in range(6)] for _ in range(3)]
-            wanted = [run_program(UnmetProgram(wish), row) for row in rows]
-            cells = [program.first_cells() for _ in rows]
-            answers = [[] for _ in rows]
-            for at in range(6):
-                for k, row in enumerate(rows):
-                    answer, _, cells[k] = do_step(program, cells[k], *row[at])
-                    answers[k].append(answer)
-            self.assertEqual([tuple(found) for found in answers], [run.answers for run in wanted])
-            self.assertEqual(cells, [run.cells for run in wanted])
+            self.servesInTurn(UnmetProgram(wish), [UnmetProgram(wish) for _ in rows], rows)
 
     def test_what_a_step_does_depends_on_what_it_reads_alone(self):
         dice = random.Random(162)
@@ -311,25 +269,13 @@ class TestCells(Case):
             asks += [(dice.randrange(3), dice.randrange(wish.book.calls)) for _ in range(3)]
             cells = run_program(program, asks).cells
             for hand, call in product(range(3), range(wish.book.calls)):
-                answer, marks, behind = do_step(program, cells, hand, call)
-                few = {name: cells[name] for name in marks[0]}
-                again, other, changed = do_step(program, few, hand, call)
-                self.assertSame((again, other), (answer, marks))
-                self.assertEqual(changed, {name: behind[name] for name in set(marks[0] + marks[1])})
+                self.dependsOnReads(program, cells, hand, call)
 
     def test_heard_reads_cells_of_the_program_alone(self):
         for wish in had_wishes(163, 30):
             program = UnmetProgram(wish)
-            names = set(program.first_cells())
             for asks in ((), [entry[:2] for entry in wish.past], [(9, 0)] * 3):
-                cells, asked = run_program(program, asks).cells, []
-
-                def read(name):
-                    asked.append(name)
-                    return cells[name]
-
-                self.assertSame(program.heard(read), heard_from(program, cells))
-                self.assertTrue(set(asked) <= names)
+                self.hearsOwnCells(program, asks)
 
     def test_a_program_that_has_become_one_forgets_the_rest(self):
         program = UnmetProgram(look_wish())

@@ -53,6 +53,11 @@ def heads_at(wish, cut):
     return tuple(heads)
 
 
+def couples_of(heads):
+    """Return, ascending, the couples of heads of unlike hands, the lesser head first."""
+    return [(one, other) for one in heads for other in heads if one[0] < other[0]]
+
+
 def cut_with(cut, hand, call):
     """Return the cut with the call at the end of the turn of the hand."""
     turns = [tuple(turn) for turn in cut]

@@ -2,7 +2,7 @@
 
 from unmetcells.books import MOST_CALLS, is_answer
 from unmetcells.errors import BadForeign
-from unmetcells.kinds import is_from, is_row, is_sequence
+from unmetcells.kinds import is_from, is_row, is_sequence, word_of
 from unmetcells.steps import check_ask
 
 CELLS = ("c0", "c1", "c2")
@@ -31,9 +31,7 @@ def deed_word(sizes, deed, above):
 
     `above` is the number of reads and writes above it.
     """
-    if not is_sequence(deed) or len(deed) == 0 or not isinstance(deed[0], str):
-        return "shape"
-    if len(deed) != DEEDS.get(deed[0], 0):
+    if word_of(deed) not in DEEDS or len(deed) != DEEDS[deed[0]]:
         return "shape"
     if deed[0] == "say":
         return None if is_answer(deed[1]) else "answer"

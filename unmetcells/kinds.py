@@ -1,4 +1,4 @@
-"""What counts as a whole number and as a sequence, in every module of the package."""
+"""What counts as a whole number and as a sequence, and other small things that many modules of the package need."""
 
 
 def is_whole(thing):
@@ -19,3 +19,25 @@ def is_sequence(thing):
 def is_row(thing, length):
     """Tell whether the thing is a sequence of so many items."""
     return is_sequence(thing) and len(thing) == length
+
+
+def word_of(thing):
+    """Return the string that the thing, if it is a sequence, begins with, or None."""
+    if not is_sequence(thing) or len(thing) == 0 or not isinstance(thing[0], str):
+        return None
+    return thing[0]
+
+
+def as_tuples(thing):
+    """Return the thing with tuples in the place of all sequences, through and through."""
+    if not is_sequence(thing):
+        return thing
+    return tuple([as_tuples(item) for item in thing])
+
+
+def chosen_rows(things):
+    """Return all rows of some of these ascending things: the shorter rows first, then ascending."""
+    rows = [()]
+    for thing in things:
+        rows = rows + [row + (thing,) for row in rows]
+    return sorted(rows, key=lambda row: (len(row), row))
